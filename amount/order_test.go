@@ -210,3 +210,23 @@ func TestJoinLaws(t *testing.T) {
 		}
 	}
 }
+
+// Consequences: every two amounts that are permitted have a greatest lower bound, so that Covers makes them a lattice.
+func TestLowerBounds(t *testing.T) {
+	for _, r := range shaped() {
+		all := permitted(r)
+		for _, a := range all {
+			for _, b := range all {
+				greatest := amount.Join(r, u(0), u(0))
+				for _, c := range all {
+					if amount.Covers(r, a, c) && amount.Covers(r, b, c) {
+						greatest = amount.Join(r, greatest, c)
+					}
+				}
+				if !amount.Covers(r, a, greatest) || !amount.Covers(r, b, greatest) {
+					t.Errorf("%+v and %+v have no greatest lower bound", a, b)
+				}
+			}
+		}
+	}
+}
